@@ -1,0 +1,1 @@
+"""Exitweave: functions with several ways out."""
