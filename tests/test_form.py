@@ -145,6 +145,19 @@ class NamesTest(unittest.TestCase):
                 self.assertNotIn(node.attr, NO_ATTRIBUTES, where)
                 self.assertTrue(node.attr == "__init__" or not node.attr.startswith("_"), where)
 
+    def test_no_local_is_called_like_a_class_or_an_import_of_its_file(self):
+        for stem, source in sources().items():
+            tree = ast.parse(source)
+            taken = {node.name for node in tree.body if isinstance(node, ast.ClassDef)}
+            for node in tree.body:
+                if isinstance(node, ast.ImportFrom):
+                    taken |= {name.name for name in node.names}
+            for node in ast.walk(tree):
+                if isinstance(node, ast.Name) and isinstance(node.ctx, ast.Store):
+                    self.assertNotIn(node.id, taken, (stem, node.lineno))
+                if isinstance(node, ast.arg):
+                    self.assertNotIn(node.arg, taken, (stem, node.lineno))
+
     def test_methods_are_the_programs_own_or_among_the_plain_ones(self):
         methods = {node.name for _, node in nodes() if isinstance(node, ast.FunctionDef)}
         for stem, node in nodes():
