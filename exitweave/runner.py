@@ -2,7 +2,7 @@
 
 from exitweave.looker import judged
 from exitweave.numbers import check_run, fault_word, holds, reckoned
-from exitweave.trees import Call, Copy, If, Leave, On, Out, Reckon, Stretch
+from exitweave.trees import Call, Copy, If, Leave, On, Out, Reckon, Stretch, arm_for
 
 
 class Run:
@@ -168,11 +168,6 @@ class Runner:
                 visit.spots.append(Spot(arm.rows, None))
             else:
                 self.do_call(visit)
-
-
-def arm_for(call, way):
-    """The call's arm for the way, which is there, since the program forgets none."""
-    return [arm for arm in call.arms if arm.way == way][0]
 
 
 def last_of(way, values):

@@ -232,6 +232,11 @@ def walk_rows(rows):
     return walked
 
 
+def arm_for(call, way):
+    """The call's arm for the way, where it has one."""
+    return [arm for arm in call.arms if arm.way == way][0]
+
+
 def line_at(depth, words):
     """One line of these words, texts or whole numbers, at a depth."""
     return "  " * depth + " ".join([str(word) for word in words])
