@@ -335,6 +335,11 @@ class Code:
         return None
 
 
+def is_call(step):
+    """Whether the step does another piece."""
+    return isinstance(step, (Summon, Handon))
+
+
 def is_own(atom):
     """Whether the atom is a name that is a piece's own: all pieces put the number of a fault by one name."""
     return isinstance(atom, str) and atom != FAULT_NAME

@@ -1,11 +1,12 @@
 """Tables handed on: calls all of whose arms lead straight out."""
 
-from exitweave.code import Code, Handon, Jump, Label, Piece, Return, Summon
+from exitweave.code import Code, Handon, Piece, Return, Summon
+from exitweave.leads import label_spots, led
 
 
 def straight(piece, arm):
     """The number of the way to which the arm leads straight, None where it leads straight nowhere."""
-    return straight_way(piece.steps, label_spots(piece), arm)
+    return straight_way(piece.steps, label_spots(piece.steps), arm)
 
 
 def handed(code):
@@ -15,7 +16,7 @@ def handed(code):
 
 def handed_piece(piece):
     """The piece with a handon in the place of each summon that leads out."""
-    spots = label_spots(piece)
+    spots = label_spots(piece.steps)
     steps = [handed_step(piece.steps, spots, step) for step in piece.steps]
     return Piece(piece.name, piece.params, piece.ways, steps)
 
@@ -24,35 +25,11 @@ def handed_step(steps, spots, step):
     """The step, or a handon where it is a summon that leads out."""
     if not isinstance(step, Summon):
         return step
-    ways = []
-    for arm in step.arms:
-        way = -1 if arm is None else straight_way(steps, spots, arm)
-        if way is None:
-            return step
-        ways.append(way)
-    return Handon(step.mark, step.callee, step.atoms, ways)
+    ways = [-1 if arm is None else straight_way(steps, spots, arm) for arm in step.arms]
+    return step if None in ways else Handon(step.mark, step.callee, step.atoms, ways)
 
 
 def straight_way(steps, spots, arm):
     """The way of the return to which the arm leads over labels and jumps alone, with just its goals; else None."""
-    spot = spots[arm[0]]
-    jumped = {}
-    while spot < len(steps) and spot not in jumped:
-        step = steps[spot]
-        if isinstance(step, Jump):
-            jumped[spot] = True
-            spot = spots[step.label]
-        elif isinstance(step, Label):
-            spot = spot + 1
-        else:
-            return step.way if isinstance(step, Return) and step.atoms == arm[1] else None
-    return None
-
-
-def label_spots(piece):
-    """Where each label of the piece stands among its steps."""
-    spots = {}
-    for spot, step in enumerate(piece.steps):
-        if isinstance(step, Label):
-            spots[step.label] = spot
-    return spots
+    step = led(steps, spots, arm[0])[1]
+    return step.way if isinstance(step, Return) and step.atoms == arm[1] else None

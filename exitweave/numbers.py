@@ -1,4 +1,4 @@
-"""Whole numbers: how they are reckoned and compared, and which are let into a run."""
+"""Whole numbers: how they are reckoned and compared, which are let into a run, and what a run ends with."""
 
 from exitweave.errors import NoRun
 
@@ -30,6 +30,11 @@ def result_of(op, one, other):
 def fault_word(number):
     """The word of the fault of this number."""
     return FAULT_WORDS[number]
+
+
+def last_of(way, values):
+    """What is told last of a run that ends by the way with this tuple of values."""
+    return ("fault", fault_word(values[0])) if way == "fault" else ("way", way, values)
 
 
 def holds(sign, one, other):

@@ -1,6 +1,6 @@
 """Pieces put in place where they are called just once."""
 
-from exitweave.code import Code, Enter, Handon, Label, Piece, Return, Send, Summon
+from exitweave.code import Code, Enter, Handon, Label, Piece, Return, Send, Summon, is_call
 
 
 def placed(code):
@@ -30,11 +30,6 @@ def call_counts(pieces):
             if is_call(step):
                 counts[step.callee] = counts.get(step.callee, 0) + 1
     return counts
-
-
-def is_call(step):
-    """Whether the step calls a piece."""
-    return isinstance(step, (Summon, Handon))
 
 
 def calls(piece, name):

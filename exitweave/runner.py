@@ -1,7 +1,8 @@
 """Runs of a program as it stands."""
 
+from exitweave.holder import Holder
 from exitweave.looker import judged
-from exitweave.numbers import check_run, fault_word, holds, reckoned
+from exitweave.numbers import check_run, holds, last_of, reckoned
 from exitweave.trees import Call, Copy, If, Leave, On, Out, Reckon, Stretch, arm_for
 
 
@@ -35,27 +36,14 @@ class Spot:
         self.stretch = stretch
 
 
-class Visit:
+class Visit(Holder):
     """A function that was begun and is not left yet: its variables, its spots, the innermost last, its latest call."""
 
     def __init__(self, function, numbers):
+        Holder.__init__(self, function.params, numbers)
         self.name = function.name
-        self.variables = dict(zip(function.params, numbers))
         self.spots = [Spot(function.rows, None)]
         self.call = None
-
-    def worth(self, atom):
-        """The number that an atom has now."""
-        return self.variables.get(atom, 0) if isinstance(atom, str) else atom
-
-    def worths(self, atoms):
-        """The numbers that the atoms have now, in their order."""
-        return [self.worth(atom) for atom in atoms]
-
-    def put(self, goals, values):
-        """Gives the values to the goals, in their order."""
-        for goal, value in zip(goals, values):
-            self.variables[goal] = value
 
 
 class Runner:
@@ -168,10 +156,3 @@ class Runner:
                 visit.spots.append(Spot(arm.rows, None))
             else:
                 self.do_call(visit)
-
-
-def last_of(way, values):
-    """What is told last where the first function was left by the way."""
-    if way == "fault":
-        return ("fault", fault_word(values[0]))
-    return ("way", way, values)

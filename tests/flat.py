@@ -291,3 +291,115 @@ def led_back(row, step):
     told = {**step, "kind": "Summon", "arms": taken}
     del told["ways"]
     return [told]
+
+
+def threaded_plain(code):
+    """Labels threaded one Jump at a time, again and again, until no label leads to a Jump."""
+    told = []
+    for piece in code:
+        steps = piece["steps"]
+        while True:
+            behind = behind_labels(steps).items()
+            turned = {label: step["label"] for label, step in behind if step is not None and step["kind"] == "Jump"}
+            new = [
+                step if step["kind"] == "Label" else mapped(step, lambda name: name, lambda label: turned.get(label, label))
+                for step in steps
+            ]
+            if new == steps:
+                break
+            steps = new
+        told.append({**piece, "steps": steps})
+    return told
+
+
+def behind_labels(steps):
+    """For each label the step to which it leads."""
+    told, latest = {}, None
+    for step in reversed(steps):
+        if step["kind"] == "Label":
+            told[step["label"]] = latest
+        else:
+            latest = step
+    return told
+
+
+def dropped_plain(code, pick=max):
+    """What is idle dropped, one thing at a time, whichever of all idle things is picked."""
+    code = [dict(piece) for piece in code]
+    while True:
+        idle = [(number, spot) for number, piece in enumerate(code) for spot in idle_spots(piece["steps"])]
+        idle += [(number, -1) for number in range(1, len(code)) if code[number]["name"] not in led_to(code)]
+        if not idle:
+            return code
+        number, spot = pick(idle)
+        if spot == -1:
+            del code[number]
+        else:
+            steps = code[number]["steps"]
+            code[number]["steps"] = steps[:spot] + steps[spot + 1:]
+
+
+def idle_spots(steps):
+    come_to = reached(steps)
+    used = {label for step in steps for label in labels_in(step)}
+    for spot, step in enumerate(steps):
+        if step["kind"] == "Label":
+            if step["label"] not in used:
+                yield spot
+        elif spot not in come_to:
+            yield spot
+        elif step["kind"] == "Jump":
+            follow = []
+            for other in steps[spot + 1:]:
+                if other["kind"] != "Label":
+                    break
+                follow.append(other["label"])
+            if step["label"] in follow:
+                yield spot
+
+
+def led_to(code):
+    """The names of the pieces to which the first one leads, its own among them."""
+    names = {code[0]["name"]}
+    while True:
+        calls = {
+            step["callee"] for piece in code if piece["name"] in names for step in piece["steps"] if "callee" in step
+        }
+        if calls <= names:
+            return names
+        names |= calls
+
+
+def marks_in(code):
+    return [step["mark"] for piece in code for step in piece["steps"]]
+
+
+def laid_lines(code):
+    """The lines of a code's layout."""
+    heads, rows = [], []
+    for piece in code:
+        bare = [step for step in piece["steps"] if step["kind"] != "Label"]
+        heads.append(" ".join(map(str, [
+            "piece", piece["name"], len(rows), len(piece["params"]), *piece["params"], len(piece["ways"]), *piece["ways"],
+        ])))
+        numbers = {
+            label: len(rows) + next(spot for spot, step in enumerate(bare) if step is target)
+            for label, target in behind_labels(piece["steps"]).items()
+        }
+        rows += [mapped(step, lambda name: name, numbers.get) for step in bare]
+    return heads + [" ".join(map(str, [row["kind"].lower(), *row["mark"], *row_words(row)])) for row in rows]
+
+
+def row_words(row):
+    for field, shape in SHAPES[row["kind"]].items():
+        value = row[field]
+        if shape in ("names", "ways"):
+            yield from [len(value), *value]
+        elif shape == "pairs":
+            yield from [len(value), *[word for pair in value for word in pair]]
+        elif shape == "arms":
+            yield len(value)
+            for arm in value:
+                yield from ["-"] if arm is None else [arm[0], len(arm[1]), *arm[1]]
+        else:
+            yield value

@@ -171,3 +171,22 @@ def misnamed_text(seed):
                 words[2] = chance.choice(["one", "two", "a", "f", "x"])
         lines[spot] = ahead + " ".join(words)
     return "\n".join(lines)
+
+
+def marked_stretches(text):
+    """The text with a saying at the begin of each stretch, and another one as its clean-up rows: 7000000 and
+    8000000 and the stretch's number."""
+    told, within, open_ones, count = [], None, {}, 0
+    for line in text.split("\n"):
+        depth = len(line) - len(line.lstrip(" "))
+        if within is None or depth <= within:
+            within = None
+            told.append(line)
+        if line.strip() == "stretch":
+            count += 1
+            open_ones[depth] = count
+            told.append(" " * (depth + 2) + f"say {7000000 + count}")
+        if line.strip() == "clean":
+            within = depth
+            told.append(" " * (depth + 2) + f"say {8000000 + open_ones[depth]}")
+    return "\n".join(told)

@@ -90,6 +90,7 @@ class NodesTest(unittest.TestCase):
                 self.assertFalse(node.orelse, where)
             if isinstance(node, ast.Assign):
                 self.assertEqual(len(node.targets), 1, where)
+                self.assertIsInstance(node.targets[0], (ast.Name, ast.Attribute, ast.Subscript), where)
             if isinstance(node, ast.ListComp):
                 self.assertEqual(len(node.generators), 1, where)
                 self.assertLessEqual(len(node.generators[0].ifs), 1, where)

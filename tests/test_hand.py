@@ -3,8 +3,7 @@
 import random
 import unittest
 
-from examples import lines_of, lines_read
-from exitweave.code import Code, Handon, Jump, Label, Move, Piece, Return, Send, Summon, Tell
+from exitweave.code import Code, Handon, Jump, Label, Move, Return, Send, Summon, Tell
 from exitweave.hand import handed, straight
 from exitweave.lower import lowered
 from exitweave.placing import placed
@@ -12,8 +11,8 @@ from exitweave.reader import read_program
 from exitweave.runner import run_trees
 from flat import handed_plain, plain, plain_step, stepped, straight_in
 from making import made_text
-
-WAYS = ["fault", "end", "w", "v"]
+from making_codes import made_code
+from passing import FOUR, PassCase, is_left_of, made, read
 
 CALLEE = """
     fun g n
@@ -30,20 +29,7 @@ CALLEE = """
 
 
 def piece_of(*makers, name="f"):
-    """A piece of steps, each told as a tuple of its class and its fields but for the mark."""
-    steps = [maker[0]((name, number), *maker[1:]) for number, maker in enumerate(makers)]
-    return Piece(name, [], WAYS, steps)
-
-
-def read(*texts):
-    """The program of texts that stand indented, each by itself."""
-    return lines_read(*[line for text in texts for line in lines_of(text)])
-
-
-def is_left_of(behind, ahead):
-    """Whether a list is another one but for things that were left out."""
-    rest = iter(ahead)
-    return all(thing in rest for thing in behind)
+    return made(name, [], FOUR, *makers)
 
 
 class StraightTest(unittest.TestCase):
@@ -135,71 +121,72 @@ class StraightTest(unittest.TestCase):
                 self.assertEqual(straight(piece, (label, goals)), straight_in(steps, label, goals))
 
 
-class HandingTest(unittest.TestCase):
-    def handed_plain(self, code):
-        """The plain data of the code handed on, held against the rules and the code itself."""
-        ahead = plain(code)
-        told = handed(code)
-        self.assertIs(type(told), Code)
-        self.assertIsNot(told, code)
-        self.assertEqual(plain(code), ahead)
-        self.assertEqual(plain(told), handed_plain(ahead))
-        self.assertEqual(plain(handed(told)), plain(told))
-        self.assertEqual(plain(handed(code)), plain(told))
-        return plain(told)
+class HandingCase(PassCase):
+    def done(self, code):
+        return handed(code)
+
+    def rule(self, code):
+        return handed_plain(code)
 
 
-class HandedTest(HandingTest):
+class HandedTest(HandingCase):
     def test_a_summon_that_leads_out(self):
         arms = [("f", ["fault.0"]), ("e", []), None, ("w", ["x", "y"])]
         piece = piece_of(
             (Tell, 1), (Summon, "g", ["a", 2], arms), (Label, "f"), (Return, 0, ["fault.0"]), (Label, "e"), (Jump, "d"),
             (Label, "w"), (Return, 3, ["x", "y"]), (Label, "d"), (Return, 2, []),
         )
-        told = self.handed_plain(Code([piece, piece_of((Return, 1, []), name="g")]))
+        told = self.passed_code(Code([piece, piece_of((Return, 1, []), name="g")]))
         self.assertEqual([one["name"] for one in told], ["f", "g"])
         self.assertEqual(told[0]["steps"][1], {
             "kind": "Handon", "mark": ("f", 1), "callee": "g", "atoms": ["a", 2], "ways": [0, 2, -1, 3],
         })
         kept = [plain_step(step) for number, step in enumerate(piece.steps) if number != 1]
         self.assertEqual(told[0]["steps"][:1] + told[0]["steps"][2:], kept)
-        self.assertEqual((told[0]["params"], told[0]["ways"]), ([], WAYS))
+        self.assertEqual((told[0]["params"], told[0]["ways"]), ([], FOUR))
 
     def test_one_arm_that_leads_straight_nowhere(self):
         arms = [("f", ["fault.0"]), ("e", [])]
         for other in ((Tell, 1), (Return, 2, ["x"]), (Jump, "e")):
             piece = piece_of((Summon, "g", [], arms), (Label, "f"), (Return, 0, ["fault.0"]), (Label, "e"), other)
             code = Code([piece])
-            self.assertEqual(self.handed_plain(code), plain(code))
+            self.assertEqual(self.passed_code(code), plain(code))
 
     def test_goals_in_another_order(self):
         for goals, kind in ((["x", "y"], "Handon"), (["y", "x"], "Summon")):
             piece = piece_of((Summon, "g", [], [None, ("w", goals)]), (Label, "w"), (Return, 2, ["x", "y"]))
-            self.assertEqual(self.handed_plain(Code([piece]))[0]["steps"][0]["kind"], kind)
+            self.assertEqual(self.passed_code(Code([piece]))[0]["steps"][0]["kind"], kind)
 
     def test_no_arms_but_none(self):
         piece = piece_of((Summon, "g", ["a"], [None, None, None]))
-        told = self.handed_plain(Code([piece]))
+        told = self.passed_code(Code([piece]))
         self.assertEqual(told[0]["steps"], [
             {"kind": "Handon", "mark": ("f", 0), "callee": "g", "atoms": ["a"], "ways": [-1, -1, -1]},
         ])
 
     def test_several_ways_of_the_callee_to_one_way(self):
         piece = piece_of((Summon, "g", [], [("l", []), ("l", []), ("m", [])]), (Label, "m"), (Label, "l"), (Return, 1, []))
-        self.assertEqual(self.handed_plain(Code([piece]))[0]["steps"][0]["ways"], [1, 1, 1])
+        self.assertEqual(self.passed_code(Code([piece]))[0]["steps"][0]["ways"], [1, 1, 1])
 
     def test_several_summons_of_one_piece_and_of_others(self):
         arms = [("r", [])]
         first = piece_of((Summon, "f", [], arms), (Label, "r"), (Return, 1, []), (Summon, "g", [], arms))
         second = piece_of((Summon, "f", [], arms), (Label, "r"), (Return, 3, []), name="g")
-        told = self.handed_plain(Code([first, second]))
+        told = self.passed_code(Code([first, second]))
         self.assertEqual([step["kind"] for step in told[0]["steps"]], ["Handon", "Label", "Return", "Handon"])
         self.assertEqual([step.get("ways") for step in told[1]["steps"]], [[3], None, None])
 
     def test_handons_that_are_there_stay(self):
         piece = piece_of((Handon, "g", ["a"], [0, -1, 2]))
         code = Code([piece])
-        self.assertEqual(self.handed_plain(code), plain(code))
+        self.assertEqual(self.passed_code(code), plain(code))
+
+    def test_made_codes(self):
+        some = 0
+        for seed in range(400):
+            code = made_code(seed)
+            some += self.passed_code(code) != plain(code)
+        self.assertGreater(some, 50)
 
     def test_the_new_steps_lists_are_its_own(self):
         piece = piece_of((Summon, "g", ["a"], [("r", [])]), (Label, "r"), (Return, 1, []))
@@ -210,12 +197,12 @@ class HandedTest(HandingTest):
         told.pieces[0].ways.clear()
         told.pieces.clear()
         self.assertEqual(piece.steps[0].atoms, ["a"])
-        self.assertEqual((len(piece.steps), piece.ways, len(code.pieces)), (3, WAYS, 1))
+        self.assertEqual((len(piece.steps), piece.ways, len(code.pieces)), (3, FOUR, 1))
 
 
-class HandedProgramsTest(HandingTest):
+class HandedProgramsTest(HandingCase):
     def kinds(self, text):
-        told = self.handed_plain(lowered(read(text, CALLEE)))
+        told = self.passed_code(lowered(read(text, CALLEE)))
         return [[step["kind"] for step in piece["steps"] if "callee" in step] for piece in told]
 
     def test_out_arms_and_arms_with_just_a_leave(self):
@@ -339,7 +326,7 @@ class HandedProgramsTest(HandingTest):
         for seed in range(300):
             code = lowered(read_program(made_text(seed)))
             for one in (code, placed(code), placed(handed(code))):
-                some += self.handed_plain(one) != plain(one)
+                some += self.passed_code(one) != plain(one)
         self.assertGreater(some, 200)
 
     def test_runs_of_made_programs(self):

@@ -12,7 +12,7 @@ from exitweave.reader import read_program
 from exitweave.runner import run_trees
 from exitweave.trees import Call, Copy, If, Leave, On, Out, Reckon, Say, Stretch
 from flat import LEADS_ELSEWHERE, labels_in, names_in, plain, reached, stepped
-from making import made_text
+from making import made_text, marked_stretches
 from oracles import all_facts
 
 SEEDS = range(300)
@@ -21,20 +21,6 @@ SEEDS = range(300)
 def lowered_lines(text):
     """The plain data of the code of a program that stands indented between line feeds."""
     return plain(lowered(lines_read(*lines_of(text))))
-
-
-def told_cleans(text):
-    """The text with one saying, of a number of its own, as the clean-up rows of each stretch."""
-    told, within = [], None
-    for line in text.split("\n"):
-        depth = len(line) - len(line.lstrip(" "))
-        if within is None or depth <= within:
-            within = None
-            told.append(line)
-        if line.strip() == "clean":
-            within = depth
-            told.append(" " * (depth + 2) + f"say {1000000 + len(told)}")
-    return "\n".join(told)
 
 
 def of_kind(piece, kind):
@@ -245,7 +231,7 @@ class PiecesTest(LoweringTest):
 
     def test_made_programs(self):
         for seed in SEEDS:
-            program = read_program(told_cleans(made_text(seed)))
+            program = read_program(marked_stretches(made_text(seed)))
             self.assert_sound(program, plain(lowered(program)))
             program = read_program(made_text(seed))
             self.assert_sound(program, plain(lowered(program)))
@@ -591,7 +577,7 @@ class CleansTest(LoweringTest):
     def test_made_programs(self):
         several = 0
         for seed in SEEDS:
-            program = read_program(told_cleans(made_text(seed)))
+            program = read_program(marked_stretches(made_text(seed)))
             facts = all_facts(program)
             for function, piece in zip(program.functions, plain(lowered(program))):
                 expected = Expected(program, function, facts)
@@ -769,21 +755,6 @@ class NamesTest(LoweringTest):
         self.assertEqual({n for s in code[0]["steps"] for n in names_in(s)}, {"a"})
 
     def test_one_name_for_a_variable_a_way_and_a_function(self):
-        code = lowered_lines("""
-            fun m m
-              way m 1
-              stretch
-                if m = 0
-                  leave m m
-                else
-                m = m - 1
-                call m m
-                  on m m
-                  out end end
-              clean
-                m = 7
-              leave m m
-        """)
         program = lines_read(*lines_of("""
             fun m m
               way m 1
@@ -799,6 +770,7 @@ class NamesTest(LoweringTest):
                 m = 7
               leave m m
         """))
+        code = plain(lowered(program))
         for number in (0, 1, 2, -1):
             self.assert_runs_alike(program, code, [number], 5)
 
@@ -994,7 +966,7 @@ class RunsTest(LoweringTest):
         lasts = {}
         for seed in SEEDS:
             chance = random.Random(seed)
-            program = read_program(told_cleans(made_text(seed)) if seed % 2 else made_text(seed))
+            program = read_program(marked_stretches(made_text(seed)) if seed % 2 else made_text(seed))
             code = plain(lowered(program))
             for fuel in list(range(6)) + [15, 60]:
                 numbers = [chance.choice([0, 1, 2, 3, -1, -7, 10 ** 39]) for _ in program.functions[0].params]

@@ -3,8 +3,7 @@
 import random
 import unittest
 
-from examples import lines_of, lines_read
-from exitweave.code import Code, Compute, Enter, Handon, Jump, Label, Move, Piece, Return, Send, Summon, Tell, Test
+from exitweave.code import Code, Compute, Enter, Handon, Jump, Label, Move, Return, Send, Summon, Tell, Test
 from exitweave.hand import handed
 from exitweave.lower import lowered
 from exitweave.placing import placed
@@ -12,50 +11,24 @@ from exitweave.reader import read_program
 from exitweave.runner import run_trees
 from flat import placed_plain, plain, plain_step, stepped
 from making import made_text
-
-TWO = ["fault", "end"]
-
-
-def made(name, params, ways, *makers):
-    """A piece of steps, each told as a tuple of its class and its fields but for the mark."""
-    steps = [maker[0]((name, number), *maker[1:]) for number, maker in enumerate(makers)]
-    return Piece(name, params, ways, steps)
+from making_codes import made_code
+from passing import FOUR, TWO, PassCase, made, read, told_steps
 
 
-def told_steps(*steps):
-    return [plain_step(step) for step in steps]
+class PlacingCase(PassCase):
+    def done(self, code):
+        return placed(code)
+
+    def rule(self, code):
+        return placed_plain(code)
 
 
-def read(text):
-    return lines_read(*lines_of(text))
-
-
-class PlacingTest(unittest.TestCase):
-    def placed_plain(self, *pieces):
-        """The plain data of a code put in place, held against the rules and the code itself."""
-        return self.code_placed(Code(pieces))
-
-    def code_placed(self, code):
-        ahead = plain(code)
-        told = placed(code)
-        self.assertIs(type(told), Code)
-        self.assertIsNot(told, code)
-        self.assertEqual(plain(code), ahead)
-        self.assertEqual(plain(told), placed_plain(ahead))
-        self.assertEqual(plain(placed(told)), plain(told))
-        self.assertEqual(plain(placed(code)), plain(told))
-        return plain(told)
-
-    def assert_stays(self, *pieces):
-        self.assertEqual(self.placed_plain(*pieces), plain(Code(pieces)))
-
-
-class MayBePlacedTest(PlacingTest):
+class MayBePlacedTest(PlacingCase):
     CALL = (Summon, "g", [], [None, ("l", [])])
     LEAVE = (Return, 1, [])
 
     def names(self, *pieces):
-        return [piece["name"] for piece in self.placed_plain(*pieces)]
+        return [piece["name"] for piece in self.passed(*pieces)]
 
     def test_the_first_piece_is_not_put_in_place(self):
         self.assert_stays(
@@ -92,7 +65,7 @@ class MayBePlacedTest(PlacingTest):
         first = made("f", [], TWO, self.LEAVE)
         one = made("g", [], TWO, (Handon, "h", [], [0, 1]))
         other = made("h", [], TWO, (Handon, "g", [], [0, 1]))
-        told = self.placed_plain(first, one, other)
+        told = self.passed(first, one, other)
         self.assertEqual([piece["name"] for piece in told], ["f", "h"])
         self.assertEqual(told[1]["steps"], told_steps(Enter(("h", 0), [], []), Handon(("g", 0), "h", [], [0, 1])))
 
@@ -111,9 +84,9 @@ class MayBePlacedTest(PlacingTest):
         self.assert_stays(made("f", [], TWO, self.LEAVE))
 
 
-class BehindSummonTest(PlacingTest):
+class BehindSummonTest(PlacingCase):
     ARMS = [("t", ["fault.0"]), ("e", []), ("w", ["x", "y"]), None]
-    WAYS = ["fault", "end", "one", "two"]
+    WAYS = FOUR
 
     def host(self, arms=None):
         return made(
@@ -131,7 +104,7 @@ class BehindSummonTest(PlacingTest):
             (Enter, [("k.x", "p")], ["k.y"]), (Return, 2, ["q", "k.x"]),
         )
         host = self.host()
-        told = self.placed_plain(host, callee)
+        told = self.passed(host, callee)
         self.assertEqual([(one["name"], one["params"], one["ways"]) for one in told], [("f", ["a"], TWO)])
         awaited = told_steps(
             host.steps[0],
@@ -159,13 +132,13 @@ class BehindSummonTest(PlacingTest):
         self.assertEqual(told[0]["steps"], awaited)
 
     def test_a_return_whose_arm_is_none_is_left_out(self):
-        told = self.placed_plain(self.host(), made("g", ["p", "q"], self.WAYS, (Return, 3, ["p"]), (Return, 1, [])))
+        told = self.passed(self.host(), made("g", ["p", "q"], self.WAYS, (Return, 3, ["p"]), (Return, 1, [])))
         marks = [step["mark"] for step in told[0]["steps"]]
         self.assertNotIn(("g", 0), marks)
         self.assertIn(("g", 1), marks)
 
     def test_handed_on_to_a_way_whose_arm_is_none(self):
-        told = self.placed_plain(self.host(), made("g", ["p", "q"], self.WAYS, (Handon, "f", ["q"], [3, 1])))
+        told = self.passed(self.host(), made("g", ["p", "q"], self.WAYS, (Handon, "f", ["q"], [3, 1])))
         self.assertEqual(told[0]["steps"][2], plain_step(Summon(("g", 0), "f", ["g.q"], [None, ("e", [])])))
 
     def test_what_is_zeroed_and_in_which_order(self):
@@ -175,37 +148,37 @@ class BehindSummonTest(PlacingTest):
             (Tell, "b"), (Return, 1, []),
         )
         host = made("f", [], TWO, (Summon, "g", [1, "y"], [None, ("l", [])]), (Label, "l"), (Return, 1, []))
-        told = self.placed_plain(host, callee)
+        told = self.passed(host, callee)
         self.assertEqual(told[0]["steps"][0], plain_step(
             Enter(("f", 0), [("g.m", 1), ("g.z", "y")], ["g.ab", "g.b", "g.b.x", "g.c", "g.end.0", "g.y"])
         ))
 
     def test_no_parameters_and_no_names(self):
         host = made("f", [], TWO, (Summon, "g", [], [None, ("l", [])]), (Label, "l"), (Return, 1, []))
-        told = self.placed_plain(host, made("g", [], TWO, (Return, 1, [])))
+        told = self.passed(host, made("g", [], TWO, (Return, 1, [])))
         self.assertEqual(told[0]["steps"][0], plain_step(Enter(("f", 0), [], [])))
 
     def test_a_parameter_that_no_row_tells(self):
         host = made("f", [], TWO, (Summon, "g", [8], [None, ("l", [])]), (Label, "l"), (Return, 1, []))
-        told = self.placed_plain(host, made("g", ["p"], TWO, (Return, 1, [])))
+        told = self.passed(host, made("g", ["p"], TWO, (Return, 1, [])))
         self.assertEqual(told[0]["steps"][0], plain_step(Enter(("f", 0), [("g.p", 8)], [])))
 
     def test_a_host_that_is_not_the_first_piece(self):
         first = made("m", [], TWO, (Return, 1, []))
-        told = self.placed_plain(first, made("g", ["p", "q"], self.WAYS, (Return, 1, [])), self.host())
+        told = self.passed(first, made("g", ["p", "q"], self.WAYS, (Return, 1, [])), self.host())
         self.assertEqual([one["name"] for one in told], ["m", "f"])
         self.assertEqual(told[1]["steps"][1]["kind"], "Enter")
 
     def test_the_atoms_of_the_row_are_the_hosts(self):
         host = made("f", ["p"], TWO, (Summon, "g", ["p", "g.p"], [None, ("l", ["q"])]), (Label, "l"), (Return, 1, []))
-        told = self.placed_plain(host, made("g", ["p", "q"], TWO, (Return, 1, ["q"])))
+        told = self.passed(host, made("g", ["p", "q"], TWO, (Return, 1, ["q"])))
         self.assertEqual(told[0]["steps"][:2], told_steps(
             Enter(("f", 0), [("g.p", "p"), ("g.q", "g.p")], []), Send(("g", 0), [("q", "g.q")], "l"),
         ))
 
 
-class BehindHandonTest(PlacingTest):
-    WAYS = ["fault", "end", "one", "two"]
+class BehindHandonTest(PlacingCase):
+    WAYS = FOUR
 
     def host(self):
         return made("f", ["a"], self.WAYS, (Label, "top"), (Handon, "g", ["a", -2], [0, 3, -1, 2]), (Jump, "top"))
@@ -217,7 +190,7 @@ class BehindHandonTest(PlacingTest):
             (Handon, "f", ["q"], [3, 2, 1, 0, -1]), (Summon, "f", ["q"], [None, ("top", ["z"])]), (Jump, "top"),
         )
         host = self.host()
-        told = self.placed_plain(host, callee)
+        told = self.passed(host, callee)
         self.assertEqual(told[0]["steps"], told_steps(
             host.steps[0],
             Enter(("f", 1), [("g.p", "a"), ("g.q", -2)], ["g.z"]),
@@ -233,18 +206,18 @@ class BehindHandonTest(PlacingTest):
 
     def test_fault_and_end_are_told_by_their_numbers(self):
         host = made("f", [], TWO, (Handon, "g", [], [1, 0]))
-        told = self.placed_plain(host, made("g", [], TWO, (Return, 0, []), (Return, 1, []), (Handon, "f", [], [0, 1])))
+        told = self.passed(host, made("g", [], TWO, (Return, 0, []), (Return, 1, []), (Handon, "f", [], [0, 1])))
         self.assertEqual(told[0]["steps"][1:], told_steps(
             Return(("g", 0), 1, []), Return(("g", 1), 0, []), Handon(("g", 2), "f", [], [1, 0]),
         ))
 
 
-class SeveralTest(PlacingTest):
+class SeveralTest(PlacingCase):
     def test_one_behind_the_other_with_several_names_ahead(self):
         first = made("f", ["a"], TWO, (Summon, "h", ["a"], [None, ("l", ["x"])]), (Label, "l"), (Return, 1, ["x"]))
         inner = made("g", ["a"], TWO, (Label, "l"), (Compute, "v", "+", "a", 1, "l"), (Return, 1, ["v"]))
         outer = made("h", ["a"], TWO, (Summon, "g", ["a"], [None, ("l", ["y"])]), (Label, "l"), (Return, 1, ["y"]))
-        told = self.placed_plain(first, inner, outer)
+        told = self.passed(first, inner, outer)
         self.assertEqual([one["name"] for one in told], ["f"])
         # g goes into h first, since it stands ahead; then h goes into f.
         self.assertEqual(told[0]["steps"], told_steps(
@@ -264,7 +237,7 @@ class SeveralTest(PlacingTest):
         first = made("f", ["a"], TWO, (Summon, "h", ["a"], [None, ("l", ["x"])]), (Label, "l"), (Return, 1, ["x"]))
         inner = made("g", ["a"], TWO, (Label, "l"), (Compute, "v", "+", "a", 1, "l"), (Return, 1, ["v"]))
         outer = made("h", ["a"], TWO, (Summon, "g", ["a"], [None, ("l", ["y"])]), (Label, "l"), (Return, 1, ["y"]))
-        told = self.placed_plain(first, outer, inner)
+        told = self.passed(first, outer, inner)
         self.assertEqual([one["name"] for one in told], ["f"])
         self.assertEqual(told[0]["steps"], told_steps(
             Enter(("f", 0), [("h.a", "a")], ["h.y"]),
@@ -282,7 +255,7 @@ class SeveralTest(PlacingTest):
         host = made(
             "f", [], TWO, (Summon, "g", [], [None, ("l", [])]), (Label, "l"), (Handon, "h", [], [0, 1]),
         )
-        told = self.placed_plain(host, made("g", [], TWO, (Return, 1, [])), made("h", [], TWO, (Return, 1, [])))
+        told = self.passed(host, made("g", [], TWO, (Return, 1, [])), made("h", [], TWO, (Return, 1, [])))
         self.assertEqual(told[0]["steps"], told_steps(
             Enter(("f", 0), [], []), Send(("g", 0), [], "l"), Label(("f", 1), "l"),
             Enter(("f", 2), [], []), Return(("h", 0), 1, []),
@@ -290,7 +263,7 @@ class SeveralTest(PlacingTest):
 
     def test_a_handon_put_in_place_of_a_summon_put_in_place_of_a_handon(self):
         host = made("f", [], TWO, (Summon, "g", [], [None, ("l", [])]), (Label, "l"), (Return, 1, []))
-        told = self.placed_plain(
+        told = self.passed(
             host, made("g", [], TWO, (Handon, "h", [], [-1, 1])), made("h", [], TWO, (Return, 0, []), (Return, 1, [])),
         )
         self.assertEqual(told[0]["steps"], told_steps(
@@ -298,8 +271,15 @@ class SeveralTest(PlacingTest):
             Label(("f", 1), "l"), Return(("f", 2), 1, []),
         ))
 
+    def test_made_codes(self):
+        some = 0
+        for seed in range(400):
+            code = made_code(seed)
+            some += self.passed_code(code) != plain(code)
+        self.assertGreater(some, 100)
 
-class PlacedProgramsTest(PlacingTest):
+
+class PlacedProgramsTest(PlacingCase):
     def test_a_chain_of_functions_becomes_one_piece(self):
         program = read("""
             fun m a
@@ -325,7 +305,7 @@ class PlacedProgramsTest(PlacingTest):
         """)
         code = lowered(program)
         for one in (code, handed(code)):
-            told = self.code_placed(one)
+            told = self.passed_code(one)
             self.assertEqual([piece["name"] for piece in told], ["m"])
             for number in (0, 1, 3, -4):
                 for fuel in range(4):
@@ -357,7 +337,7 @@ class PlacedProgramsTest(PlacingTest):
                 leave more
               else
         """)
-        told = self.code_placed(lowered(program))
+        told = self.passed_code(lowered(program))
         self.assertEqual([piece["name"] for piece in told], ["m", "f"])
         for fuel in range(12):
             run = run_trees(program, [], fuel)
@@ -368,7 +348,7 @@ class PlacedProgramsTest(PlacingTest):
         for seed in range(300):
             code = lowered(read_program(made_text(seed)))
             for one in (code, handed(code), handed(placed(code))):
-                told = self.code_placed(one)
+                told = self.passed_code(one)
                 some += told != plain(one)
                 self.assertTrue(told)
                 self.assertEqual(told[0]["name"], code.pieces[0].name)
@@ -411,7 +391,7 @@ class PlacedProgramsTest(PlacingTest):
         self.assertGreater(fewer, 100)
 
 
-class ListsTest(PlacingTest):
+class ListsTest(PlacingCase):
     def test_a_code_changed_behind_changes_nothing(self):
         callee = made("g", ["p"], TWO, (Move, "x", "p"), (Return, 1, ["x"]))
         host = made("f", [], TWO, (Summon, "g", [1], [None, ("l", ["y"])]), (Label, "l"), (Return, 1, []))
